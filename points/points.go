@@ -1,4 +1,4 @@
-// Package points: what layers need of points and their ranges that may not call each other.
+// Package points: what layers need of points, their ranges and patterns that may not call each other.
 package points
 
 import (
