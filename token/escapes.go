@@ -1,6 +1,9 @@
 package token
 
-import "thicket/api"
+import (
+	"thicket/api"
+	"thicket/points"
+)
 
 // class of points, or all but those.
 type class struct {
@@ -99,7 +102,7 @@ func control(p int) int {
 	case 'e':
 		return 27
 	}
-	if isLetter(p) || p == '0' {
+	if points.IsLetter(p) || p == '0' {
 		panic(api.ErrForm)
 	}
 	return p

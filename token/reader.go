@@ -5,10 +5,7 @@ import (
 	"thicket/points"
 )
 
-const (
-	maxDigits = 3  // of a number
-	maxName   = 20 // points of a name
-)
+const maxDigits = 3 // of a number
 
 // reader of one token.
 type reader struct {
@@ -54,7 +51,7 @@ func (r *reader) hex(least, most int) int {
 // name reads up to what can be part of no name, or would make it too long.
 func (r *reader) name() string {
 	var text []byte
-	for len(text) < maxName && !r.Ended() && mayNameHave(r.Pattern[r.At], len(text) == 0) {
+	for len(text) < points.MaxName && !r.Ended() && points.MayNameHave(r.Pattern[r.At], len(text) == 0) {
 		text = append(text, byte(r.Pattern[r.At]))
 		r.At++
 	}
@@ -63,12 +60,6 @@ func (r *reader) name() string {
 	}
 	return string(text)
 }
-
-func mayNameHave(p int, first bool) bool {
-	return isLetter(p) || p == '_' || !first && digit(p) < 10
-}
-
-func isLetter(p int) bool { return p >= 'a' && p <= 'z' || p >= 'A' && p <= 'Z' }
 
 // digit is what a digit counts; what is none counts more than any base has.
 func digit(p int) int {
