@@ -1,0 +1,34 @@
+package match
+
+import "thicket/api"
+
+// behind: those ways of the Kid that begin as many points back as it may take, the fewest first, and end where one is.
+func (m *matcher) behind(kid ways, takes api.Facts) ways {
+	return func(follow step) step {
+		b := &behind{matcher: m, kid: kid, most: min(takes.Most, m.at), here: m.at, follow: follow}
+		return b.from(takes.Least)
+	}
+}
+
+type behind struct {
+	*matcher
+	kid    ways
+	most   int
+	here   int
+	follow step
+}
+
+// from so many points back, and then from more.
+func (b *behind) from(back int) step {
+	if back > b.most {
+		return b.fail()
+	}
+	b.lay(func() step { return b.from(back + 1) })
+	b.at = b.here - back
+	return b.kid(func() step {
+		if b.at != b.here {
+			return b.fail()
+		}
+		return b.follow
+	})
+}
