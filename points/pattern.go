@@ -43,3 +43,13 @@ func (c *Cursor) Skip(these ...int) bool {
 	c.At += len(these)
 	return true
 }
+
+// Name reads as much of a name as comes next, up to what can be no part of it, or would make it too long; there may be none.
+func (c *Cursor) Name() string {
+	var text []byte
+	for len(text) < MaxName && !c.Ended() && MayNameHave(c.Pattern[c.At], len(text) == 0) {
+		text = append(text, byte(c.Pattern[c.At]))
+		c.At++
+	}
+	return string(text)
+}

@@ -1,6 +1,7 @@
 package points_test
 
 import (
+	"strings"
 	"testing"
 
 	"thicket/api"
@@ -43,5 +44,24 @@ func TestCursor(t *testing.T) {
 	}
 	if c.Ended() || !c.Is(3) || c.Is(3, 4) || !c.Skip(3) || !c.Ended() || c.Is(4) || c.Skip(4) || c.At != 3 {
 		t.Error("at the end")
+	}
+}
+
+func TestCursorName(t *testing.T) {
+	for _, c := range []struct {
+		pattern, name string
+		at, next      int
+	}{
+		{"", "", 0, 0}, {"a", "a", 0, 1}, {"a", "", 1, 1}, {"<a9_>", "a9_", 1, 4}, {"9a", "", 0, 0}, {"_9-a", "_9", 0, 2}, {"aé", "a", 0, 1}, {"\u0161", "", 0, 0},
+		{strings.Repeat("a", 20), strings.Repeat("a", 20), 0, 20}, {strings.Repeat("a", 21), strings.Repeat("a", 20), 0, 20},
+	} {
+		var l []int
+		for _, p := range c.pattern {
+			l = append(l, int(p))
+		}
+		r := points.Cursor{Pattern: l, At: c.at}
+		if name := r.Name(); name != c.name || r.At != c.next {
+			t.Errorf("%q from %d: %q, then at %d", c.pattern, c.at, name, r.At)
+		}
 	}
 }

@@ -48,17 +48,13 @@ func (r *reader) hex(least, most int) int {
 	return number
 }
 
-// name reads up to what can be part of no name, or would make it too long.
+// name must stand there.
 func (r *reader) name() string {
-	var text []byte
-	for len(text) < points.MaxName && !r.Ended() && points.MayNameHave(r.Pattern[r.At], len(text) == 0) {
-		text = append(text, byte(r.Pattern[r.At]))
-		r.At++
-	}
-	if len(text) == 0 {
+	text := r.Name()
+	if text == "" {
 		panic(api.ErrForm)
 	}
-	return string(text)
+	return text
 }
 
 // digit is what a digit counts; what is none counts more than any base has.

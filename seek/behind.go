@@ -1,17 +1,17 @@
-package match
+package seek
 
 import "thicket/api"
 
 // behind: those ways of the Kid that begin as many points back as it may take, the fewest first, and end where one is.
-func (m *matcher) behind(kid ways, takes api.Facts) ways {
+func (m *Matcher) behind(kid ways, takes api.Facts) ways {
 	return func(follow step) step {
-		b := &behind{matcher: m, kid: kid, most: min(takes.Most, m.at), here: m.at, follow: follow}
+		b := &behind{Matcher: m, kid: kid, most: min(takes.Most, m.At), here: m.At, follow: follow}
 		return b.from(takes.Least)
 	}
 }
 
 type behind struct {
-	*matcher
+	*Matcher
 	kid    ways
 	most   int
 	here   int
@@ -24,9 +24,9 @@ func (b *behind) from(back int) step {
 		return b.fail()
 	}
 	b.lay(func() step { return b.from(back + 1) })
-	b.at = b.here - back
+	b.At = b.here - back
 	return b.kid(func() step {
-		if b.at != b.here {
+		if b.At != b.here {
 			return b.fail()
 		}
 		return b.follow

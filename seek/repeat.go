@@ -1,9 +1,9 @@
-package match
+package seek
 
 import "thicket/api"
 
-func (m *matcher) repeat(n api.Node, kid ways) ways {
-	r := &repeat{matcher: m, kid: kid, least: n.Least, most: n.Most, lazy: n.Way == api.WayLazy}
+func (m *Matcher) repeat(n api.Node, kid ways) ways {
+	r := &repeat{Matcher: m, kid: kid, least: n.Least, most: n.Most, lazy: n.Way == api.WayLazy}
 	rounds := func(follow step) step { return r.round(0, follow) }
 	if n.Way == api.WayPossessive {
 		return m.first(rounds)
@@ -12,7 +12,7 @@ func (m *matcher) repeat(n api.Node, kid ways) ways {
 }
 
 type repeat struct {
-	*matcher
+	*Matcher
 	kid         ways
 	least, most int
 	lazy        bool
@@ -35,9 +35,9 @@ func (r *repeat) round(done int, follow step) step {
 
 // more than there must be: a round that goes nowhere is none, or there might be no end of them.
 func (r *repeat) more(done int, follow step) step {
-	from := r.at
+	from := r.At
 	return r.kid(func() step {
-		if r.at == from {
+		if r.At == from {
 			return r.fail()
 		}
 		return r.round(done+1, follow)

@@ -1,8 +1,7 @@
-package match
+package seek
 
 import (
 	"thicket/api"
-	"thicket/set"
 	"thicket/tree"
 )
 
@@ -10,7 +9,7 @@ import (
 type ways func(follow step) step
 
 // waysOf a node that was checked; each time when they are begun fuel is burnt.
-func (m *matcher) waysOf(n api.Node) ways {
+func (m *Matcher) waysOf(n api.Node) ways {
 	begin := m.waysByKind(n)
 	return func(follow step) step {
 		m.burn()
@@ -18,7 +17,7 @@ func (m *matcher) waysOf(n api.Node) ways {
 	}
 }
 
-func (m *matcher) waysByKind(n api.Node) ways {
+func (m *Matcher) waysByKind(n api.Node) ways {
 	var kids []ways
 	for _, kid := range n.Kids {
 		kids = append(kids, m.waysOf(kid))
@@ -27,9 +26,9 @@ func (m *matcher) waysByKind(n api.Node) ways {
 	case api.NodeEmpty:
 		return func(follow step) step { return follow }
 	case api.NodeSet:
-		return m.ifSo(func() bool { return m.take(n.Set) })
+		return m.ifSo(func() bool { return m.Take(n.Set) })
 	case api.NodeAgain:
-		return m.ifSo(func() bool { return m.takeAgain(n.Number-1, n.Fold) })
+		return m.ifSo(func() bool { return m.TakeAgain(m.groups[n.Number-1], n.Fold) })
 	case api.NodeRow:
 		return func(follow step) step { return row(kids, follow) }
 	case api.NodeEither:
@@ -49,29 +48,17 @@ func (m *matcher) waysByKind(n api.Node) ways {
 	case api.NodeNotBehind:
 		return m.none(m.behind(kids[0], tree.Facts(n.Kids[0])))
 	}
-	return m.ifSo(func() bool { return m.looks(n.Kind) })
+	return m.ifSo(func() bool { return m.Looks(n.Kind) })
 }
 
 // ifSo is one way, if something holds.
-func (m *matcher) ifSo(holds func() bool) ways {
+func (m *Matcher) ifSo(holds func() bool) ways {
 	return func(follow step) step {
 		if !holds() {
 			return m.fail()
 		}
 		return follow
 	}
-}
-
-// take a point of a set, if one stands there; it tells whether it does.
-func (m *matcher) take(a []api.Range) bool {
-	if m.at == len(m.points) {
-		return false
-	}
-	has, _ := set.Has(a, m.points[m.at])
-	if has {
-		m.at++
-	}
-	return has
 }
 
 func row(kids []ways, follow step) step {
@@ -81,16 +68,16 @@ func row(kids []ways, follow step) step {
 	return kids[0](func() step { return row(kids[1:], follow) })
 }
 
-func (m *matcher) either(kids []ways, follow step) step {
+func (m *Matcher) either(kids []ways, follow step) step {
 	if len(kids) > 1 {
 		m.lay(func() step { return m.either(kids[1:], follow) })
 	}
 	return kids[0](follow)
 }
 
-func (m *matcher) group(group int, kid ways) ways {
+func (m *Matcher) group(group int, kid ways) ways {
 	return func(follow step) step {
-		from := m.at
+		from := m.At
 		return kid(func() step {
 			m.set(group, from)
 			return follow
@@ -99,7 +86,7 @@ func (m *matcher) group(group int, kid ways) ways {
 }
 
 // first of some ways alone.
-func (m *matcher) first(some ways) ways {
+func (m *Matcher) first(some ways) ways {
 	return func(follow step) step {
 		backs := len(m.backs)
 		return some(func() step {
@@ -110,7 +97,7 @@ func (m *matcher) first(some ways) ways {
 }
 
 // none of some ways: one, as it is, if there is none of those.
-func (m *matcher) none(some ways) ways {
+func (m *Matcher) none(some ways) ways {
 	return func(follow step) step {
 		backs := len(m.backs)
 		m.lay(follow)
@@ -122,11 +109,11 @@ func (m *matcher) none(some ways) ways {
 }
 
 // ahead: what groups have at the end of the Kid's ways, where one was at their beginning.
-func (m *matcher) ahead(kid ways) ways {
+func (m *Matcher) ahead(kid ways) ways {
 	return func(follow step) step {
-		here := m.at
+		here := m.At
 		return kid(func() step {
-			m.at = here
+			m.At = here
 			return follow
 		})
 	}
